@@ -19,6 +19,19 @@ def is_stone(value):
     return is_pair(value) and is_number(value[0]) and is_number(value[1]) and value[1] >= 1
 
 
+def is_count(row, value):
+    return is_number(value) and 0 <= value < len(row)
+
+
+def is_side(value):
+    # Asked first whether it is a number, since True and 1.0 are equal to 1.
+    return is_number(value) and (value == RIGHT or value == LEFT)
+
+
+def is_push(row, value):
+    return is_pair(value) and is_count(row, value[0]) and is_side(value[1])
+
+
 # The words of a refusal never show the value: a number of very many figures
 # can't be turned into a text, and that would raise another error.
 def check_row(row):
@@ -33,14 +46,20 @@ def check_row(row):
 
 
 def check_stone(row, stone):
-    if not is_number(stone) or stone < 0 or stone >= len(row):
+    if not is_count(row, stone):
         raise BadStone("a stone is told by its count in the row, from 0")
 
 
 def check_side(side):
-    # Asked first whether it is a number, since True and 1.0 are equal to 1.
-    if not is_number(side) or (side != RIGHT and side != LEFT):
+    if not is_side(side):
         raise BadSide("a side is 1 or -1")
+
+
+def check_push(row, push):
+    if not is_pair(push):
+        raise BadStone("a push is a pair of a stone's count and a side")
+    check_stone(row, push[0])
+    check_side(push[1])
 
 
 def mirrored(row):

@@ -1,106 +1,13 @@
 import copy
-import decimal
-import fractions
-import itertools
 import unittest
 
-from fallrow.errors import BadRow, BadSide, BadStone, FallError
+from fallrow.errors import BadRow, BadSide, BadStone
 from fallrow.rows import felled, mirrored
-
-# More figures than Python turns into a text, so that a refusal that shows its value is found out.
-HUGE = 10 ** 5000
+from tests.common import (
+    BAD_SIDES, HUGE, Refusing, Unequal, bad_rows, bad_stones, felled_by_the_words, small_rows,
+)
 
 ROW = [(-4, 2), (-3, 1), (0, 3), (3, 1), (5, 9)]
-
-
-class Unequal:
-    def __eq__(self, other):
-        raise RuntimeError("compared")
-
-    def __bool__(self):
-        raise RuntimeError("asked for its truth")
-
-    def __repr__(self):
-        raise RuntimeError("shown")
-
-    __lt__ = __gt__ = __le__ = __ge__ = __ne__ = __eq__
-    __hash__ = None
-
-
-def endless_list():
-    inner = []
-    inner.append(inner)
-    return inner
-
-
-NO_NUMBERS = [
-    None, True, False, 0.0, 1.0, -1.0, 1.5, float("nan"), float("inf"), 1j, "", "1", b"1",
-    fractions.Fraction(1), decimal.Decimal(1), [], [1], (), (1,), {}, {1: 1}, set(), {1}, frozenset(),
-    range(1), object(), int, len, Unequal(), endless_list(),
-]
-
-NO_LISTS = [
-    None, True, False, 0, 1, HUGE, 1.0, "", "0:1", b"", (), ((0, 1),), {}, {0: (0, 1)}, set(), {(0, 1)},
-    frozenset(), range(0), iter([]), (stone for stone in [(0, 1)]), object(), list, Unequal(),
-]
-
-NO_PAIRS = [
-    None, True, 0, 1, 1.0, "", "01", b"01", [], [0, 1], (), (0,), (0, 1, 2), ((0, 1),), {}, {0: 1, 1: 2},
-    {0, 1}, range(2), iter((0, 1)), object(), tuple, Unequal(), endless_list(),
-]
-
-
-def bad_rows():
-    rows = list(NO_LISTS)
-    for thing in NO_PAIRS:
-        rows.extend([[thing], [(0, 1), thing], [thing, (0, 1)]])
-    for thing in NO_NUMBERS:
-        rows.extend([[(thing, 1)], [(0, thing)], [(thing, thing)], [(-9, 1), (thing, 1)], [(-9, 1), (9, thing)]])
-    for height in (0, -1, -2, -HUGE):
-        rows.extend([[(0, height)], [(0, 1), (1, height)], [(0, height), (1, 1)]])
-    rows.extend([
-        [(0, 1), (0, 1)], [(0, 1), (0, 2)], [(1, 1), (0, 1)], [(0, 1), (-1, 1)],
-        [(0, 1), (2, 1), (1, 1)], [(0, 1), (2, 1), (2, 1)], [(3, 1), (1, 1), (2, 1)],
-        [(HUGE, 1), (HUGE, 1)], [(HUGE, 1), (HUGE - 1, 1)], [(-HUGE, 1), (-HUGE - 1, 1)],
-    ])
-    return rows
-
-
-def bad_stones(count):
-    return NO_NUMBERS + [-1, -2, -count, -count - 1, -HUGE, count, count + 1, HUGE]
-
-
-BAD_SIDES = NO_NUMBERS + [0, 2, -2, 3, HUGE, -HUGE]
-
-
-def knocks(row, one, other, side):
-    distance = (row[other][0] - row[one][0]) * side
-    return 0 < distance <= row[one][1]
-
-
-def felled_by_the_words(row, stone, side):
-    fallen = {stone}
-    while True:
-        more = {k for k in range(len(row)) for one in fallen if knocks(row, one, k, side)} - fallen
-        if not more:
-            return sorted(fallen)
-        fallen |= more
-
-
-def small_rows():
-    yield []
-    for count, heights in ((1, 3), (2, 5), (3, 4), (4, 3)):
-        for places in itertools.combinations(range(-3, 3), count):
-            for chosen in itertools.product(range(1, heights + 1), repeat=count):
-                yield list(zip(places, chosen))
-
-
-class Refusing(unittest.TestCase):
-    def refused(self, refusal, call, *given):
-        with self.assertRaises(FallError) as caught:
-            call(*given)
-        self.assertIs(type(caught.exception), refusal)
-        self.assertIsInstance(caught.exception, ValueError)
 
 
 class BadRows(Refusing):
